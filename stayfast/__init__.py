@@ -1,0 +1,1 @@
+"""Stayfast: what stands, by bars, ropes, props, walls and wheels."""
