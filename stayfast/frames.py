@@ -1,7 +1,7 @@
 """Frames, spots of a frame, and what is told of them."""
 
 from stayfast.errors import NoBar
-from stayfast.wholes import is_whole_from
+from stayfast.wholes import is_whole_from, rises
 
 JOINTS = 6
 FARTHEST = 999
@@ -26,7 +26,7 @@ def are_bars(many, thing):
     # Things that are no bars can't always be compared, so rising is asked last.
     if not isinstance(thing, tuple) or not all([is_bar(many, bar) for bar in thing]):
         return False
-    return all([bar < later for bar, later in zip(thing, thing[1:])])
+    return rises(thing)
 
 
 def is_frame(thing):

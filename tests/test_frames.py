@@ -6,25 +6,13 @@ import unittest
 from stayfast import errors
 from stayfast.frames import JOINTS, are_spots, is_frame, joined, with_bar, without
 from tests.anything import anythings, not_whole, plain_things
+from tests.drawn import small_frames
 
 HUGE = 10**100 - 1
 ALL_PAIRS = tuple(itertools.combinations(range(6), 2))
 FULL = (6, ALL_PAIRS)
 SQUARE = (4, ((0, 1), (0, 2), (0, 3), (1, 2), (2, 3)))
 SQUARE_SPOTS = ((0, 0), (4, 0), (4, 3), (0, 3))
-
-
-def frames_of(many):
-    """Every frame of that many joints, by its own way of counting."""
-    pairs = list(itertools.combinations(range(many), 2))
-    for size in range(len(pairs) + 1):
-        for bars in itertools.combinations(pairs, size):
-            yield (many, bars)
-
-
-def small_frames():
-    """Every frame of at most four joints."""
-    return [frame for many in range(1, 5) for frame in frames_of(many)]
 
 
 class Numbers(unittest.TestCase):

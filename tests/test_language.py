@@ -38,6 +38,19 @@ def trees():
     return [(path, ast.parse(path.read_text("ascii"))) for path in FILES]
 
 
+def bound_at_the_top(tree):
+    """The names that a file's module level binds, each as often as it does: imports, functions, classes, values."""
+    names = []
+    for node in tree.body:
+        if isinstance(node, ast.ImportFrom):
+            names += [alias.asname or alias.name for alias in node.names]
+        elif isinstance(node, (ast.FunctionDef, ast.ClassDef)):
+            names.append(node.name)
+        elif isinstance(node, ast.Assign):
+            names += [target.id for target in node.targets]
+    return names
+
+
 def bound_names(tree):
     """The names of variables, functions, classes and parameters of a file."""
     names = []
@@ -106,6 +119,40 @@ class Code(unittest.TestCase):
                     self.assertRegex(node.module, r"^(stayfast\.\w+|__future__)$")
                     self.assertIn(node, tree.body)
                     self.assertNotIn("*", [alias.name for alias in node.names])
+
+    def test_imports_name_the_file_that_defines_the_name_and_are_used(self):
+        homes = {f"stayfast.{path.stem}": tree for path, tree in trees()}
+        for path, tree in trees():
+            read = {node.id for node in ast.walk(tree) if isinstance(node, ast.Name)}
+            for node in tree.body:
+                if isinstance(node, ast.ImportFrom) and node.module != "__future__":
+                    home = [item for item in homes[node.module].body if not isinstance(item, ast.ImportFrom)]
+                    defined = bound_at_the_top(ast.Module(home, []))
+                    for alias in node.names:
+                        self.assertIn(alias.name, defined, path.name)
+                        self.assertIn(alias.asname or alias.name, read, path.name)
+
+    def test_no_two_files_import_from_each_other(self):
+        reached = {}
+        for path, tree in trees():
+            sources = [node.module for node in tree.body if isinstance(node, ast.ImportFrom)]
+            reached[f"stayfast.{path.stem}"] = set(sources) - {"__future__"}
+        for _ in reached:
+            for sources in reached.values():
+                sources.update(*[reached[source] for source in sorted(sources)])
+        for name, sources in reached.items():
+            self.assertNotIn(name, sources)
+
+    def test_each_name_is_bound_once_at_the_top_and_imports_and_classes_nowhere_else(self):
+        for path, tree in trees():
+            names = bound_at_the_top(tree)
+            self.assertEqual(sorted(set(names)), sorted(names), path.name)
+            classes = [node.name for node in tree.body if isinstance(node, ast.ClassDef)]
+            imports = [node for node in tree.body if isinstance(node, ast.ImportFrom)]
+            taken = classes + bound_at_the_top(ast.Module(imports, []))
+            for node in ast.walk(tree):
+                if isinstance(node, ast.FunctionDef):
+                    self.assertEqual(set(bound_names(node)) & set(taken), set(), path.name)
 
     def test_statements_and_signs(self):
         for path, tree in trees():
