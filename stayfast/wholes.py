@@ -1,5 +1,10 @@
 """What a whole number is, and how rows of whole numbers are reckoned with."""
 
+# Where unknowns are raised, a step tells that they, each times its number in the row, put together make 0.
+# The unknown at AIM is to be as great as can be while that at SHARE is 1; those that are sided are from 0 on.
+AIM = 0
+SHARE = 1
+
 
 def is_whole(thing):
     """Tell of anything whether it is a whole number."""
@@ -92,3 +97,84 @@ def answer_from(steps, place, width):
         row[lead] = -short
         row = lowest(row)
     return row
+
+
+def steps_of(rows):
+    """Tell the steps made by those rows that the ones ahead of them can't clear."""
+    steps = []
+    for row in rows:
+        rest = cleared(row, steps)
+        lead = lead_of(rest)
+        if lead is not None:
+            steps.append(made_step(lead, rest))
+    return steps
+
+
+def turned(steps, at, place):
+    """Tell the steps where the one that stands there leads at the place, and all others are 0 at it."""
+    ahead = made_step(place, steps[at][1])
+    return [ahead if other == at else (lead, cleared(row, [ahead])) for other, (lead, row) in enumerate(steps)]
+
+
+def unled(steps, place):
+    """Tell where the first step stands that has no lead and is not 0 at the place, or None."""
+    for at, (lead, row) in enumerate(steps):
+        if lead is None and row[place] != 0:
+            return at
+    return None
+
+
+def settled(steps, sided):
+    """Tell the steps where each one leads, AIM behind all that isn't sided; those that are all 0 are left out."""
+    free = [place for place, side in enumerate(sided) if not side and place not in (AIM, SHARE)]
+    others = [place for place, side in enumerate(sided) if side]
+    for place in free + [AIM] + others:
+        at = unled(steps, place)
+        if at is not None:
+            steps = turned(steps, at, place)
+    return [(lead, row) for lead, row in steps if lead is not None]
+
+
+def entering(steps, sided):
+    """Tell the first place of an unknown by which AIM rises, or None."""
+    for lead, row in steps:
+        if lead == AIM:
+            return lead_of([1 if side and number < 0 else 0 for side, number in zip(sided, row)])
+    # No step holds AIM, so it rises by itself.
+    return AIM
+
+
+def stops_first(step, other, place):
+    """Tell whether the step stops what rises at the place ahead of the other one."""
+    lead, row = step
+    other_lead, other_row = other
+    ahead = row[SHARE] * other_row[place] - other_row[SHARE] * row[place]
+    # Of those that stop it together the first unknown is taken, so that the same steps never come round again.
+    return ahead > 0 or (ahead == 0 and lead < other_lead)
+
+
+def leaving(steps, sided, place):
+    """Tell where the step stands that stops what rises at the place first, its lead coming down to 0, or None."""
+    best = None
+    for at, (lead, row) in enumerate(steps):
+        if sided[lead] and row[place] > 0 and (best is None or stops_first(steps[at], steps[best], place)):
+            best = at
+    return best
+
+
+def raised(steps, sided):
+    """Tell the steps by which AIM is as great as can be, and None.
+
+    Where it rises for ever, tell the steps and the place of the unknown by which it does. Of the steps handed in
+    some have a lead that is sided, where all others are 0, and are at most 0 at SHARE; those that have no lead
+    are 0 at SHARE.
+    """
+    steps = settled(steps, sided)
+    place = entering(steps, sided)
+    while place is not None:
+        at = leaving(steps, sided, place)
+        if at is None:
+            return (steps, place)
+        steps = turned(steps, at, place)
+        place = entering(steps, sided)
+    return (steps, None)

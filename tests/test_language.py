@@ -198,6 +198,23 @@ class Code(unittest.TestCase):
             read = {node.id for node in ast.walk(tree) if isinstance(node, ast.Name)}
             self.assertEqual(read & barred, set(), path.name)
 
+    def test_what_is_iterated_at_once_is_not_stored(self):
+        at_once = {"range", "zip", "enumerate", "reversed", "items", "keys", "values"}
+        for path, tree in trees():
+            for node in ast.walk(tree):
+                if isinstance(node, (ast.Assign, ast.AugAssign, ast.Return)) and isinstance(node.value, ast.Call):
+                    called = node.value.func
+                    name = called.id if isinstance(called, ast.Name) else getattr(called, "attr", "")
+                    self.assertNotIn(name, at_once, path.name)
+
+    def test_what_tells_truths_and_sums_takes_a_list(self):
+        takers = {"any", "all", "min", "max", "sum", "sorted"}
+        for path, tree in trees():
+            for node in ast.walk(tree):
+                if isinstance(node, ast.Call) and isinstance(node.func, ast.Name) and node.func.id in takers:
+                    for part in node.args:
+                        self.assertNotIsInstance(part, ast.GeneratorExp, path.name)
+
     def test_is_stands_only_with_none_and_truths(self):
         for path, tree in trees():
             for node in ast.walk(tree):

@@ -9,51 +9,14 @@ from stayfast.motions import moves
 from stayfast.rigs import comes_to, goes, is_force, is_rig
 from tests.anything import anythings, nested, plain_things, wrong_kinds, wrong_lengths
 from tests.drawn import HUGE, come_to, drawn_cases, drawn_pairs, growth, pairs_of
+from tests.rigged import KINDS, SIX_STAYS, drawn_force, drawn_rigs, let_go
 
-KINDS = ("bar", "rope", "prop")
 TRIANGLE = (3, ((0, 1), (0, 2), (1, 2)))
 SPOTS = ((0, 0), (4, 0), (0, 3))
 RIG = (TRIANGLE, KINDS, ((0, 0, 1), (0, 1, 0), (1, 0, 1)), ((1, 1, 0), (2, -3, 4)))
 FORCE = ((0, 1, -1), (1, 0, -5), (0, 1))
 POINT = ((1, ()), (), (), ())
-SIX_STAYS = tuple([(0, at, 1) for at in range(6)])
 SEVEN_STAYS = tuple([(0, at, 1) for at in range(7)])
-
-
-def drawn_stays(draw, many):
-    """Holds or walls of that many joints, rising, from none to six."""
-    drawn = {(draw.randrange(many), draw.randint(-3, 3), draw.randint(-3, 3)) for _ in range(draw.randint(0, 6))}
-    return tuple(sorted([stay for stay in drawn if stay[1:] != (0, 0)]))
-
-
-def drawn_rigs(seed, count):
-    """Rigs with spots, by drawn frames."""
-    draw = random.Random(seed)
-    rigs = []
-    for frame, spots in drawn_cases(seed, count):
-        kinds = tuple([draw.choice(KINDS) for _ in frame[1]])
-        rigs.append(((frame, kinds, drawn_stays(draw, frame[0]), drawn_stays(draw, frame[0])), spots))
-    return rigs
-
-
-def drawn_force(draw, rig, far):
-    """A force of the rig with numbers from -far to far."""
-    signs = {"bar": (-1, 1), "rope": (0, 1), "prop": (-1, 0)}
-    weights = tuple([draw.randint(far * signs[kind][0], far * signs[kind][1]) for kind in rig[1]])
-    pushes = tuple([draw.randint(-far, far) for _ in rig[2]])
-    return (weights, pushes, tuple([draw.randint(0, far) for _ in rig[3]]))
-
-
-def let_go(rig, spots, motion):
-    """Whether the motion goes, by the second reckoning."""
-    (_, bars), kinds, holds, walls = rig
-    signs = {"bar": (0,), "rope": (-1, 0), "prop": (0, 1)}
-    for kind, bar in zip(kinds, bars):
-        grown = growth(spots, motion, *bar)
-        if (grown > 0) - (grown < 0) not in signs[kind]:
-            return False
-    along = [[motion[joint][0] * a + motion[joint][1] * b for joint, a, b in stays] for stays in (holds, walls)]
-    return not any(along[0]) and max(along[1], default=0) <= 0
 
 
 class IsRig(unittest.TestCase):

@@ -6,8 +6,8 @@ import random
 import unittest
 
 from stayfast.wholes import (
-    added, answer_from, are_wholes, cleared, common_divisor, is_whole, is_whole_from, lead_of, lowest, made_step,
-    product, rises, times,
+    AIM, SHARE, added, answer_from, are_wholes, cleared, common_divisor, is_whole, is_whole_from, lead_of, lowest,
+    made_step, product, raised, rises, settled, steps_of, times, turned,
 )
 from tests.anything import anythings, not_whole, wrong_kinds
 from tests.drawn import HUGE, rank_of
@@ -100,6 +100,91 @@ class Rows(unittest.TestCase):
                 self.assertNotEqual(row[place], 0)
                 self.assertEqual([row[at] for at in range(width) if at != place and at not in leads],
                                  [0] * (width - 1 - len(leads)))
+
+    def test_steps_of_rows(self):
+        draw = random.Random(52)
+        for _ in range(200):
+            width = draw.randint(1, 6)
+            rows = [[draw.randint(-2, 2) for _ in range(width)] for _ in range(draw.randint(0, 8))]
+            steps = steps_of(rows)
+            self.assertEqual(len(steps), rank_of(rows))
+            self.assertEqual(rank_of(rows + [step for _, step in steps]), rank_of(rows))
+            for at, (lead, step) in enumerate(steps):
+                self.assertGreater(step[lead], 0)
+                self.assertEqual([later[lead] for _, later in steps[at + 1:]], [0] * len(steps[at + 1:]))
+
+
+def drawn_unknowns(draw):
+    """Steps to raise, and which unknowns are sided: some that make 0, and some that are kept below by a share."""
+    below, others = draw.randint(0, 4), draw.randint(1, 5)
+    sided = [False, False] + [draw.randrange(3) > 0 for _ in range(others)] + [True] * below
+    steps = [(None, [draw.randint(-2, 2), 0] + [draw.randint(-2, 2) for _ in range(others)] + [0] * below)
+             for _ in range(draw.randint(1, 4))]
+    for at in range(below):
+        # Only what is from 0 on is kept below, so that noughts do for all.
+        row = [0, -draw.randint(0, 5)] + [draw.randint(0, 2) if side else 0 for side in sided[2:2 + others]]
+        steps.append((2 + others + at, row + [1 if place == at else 0 for place in range(below)]))
+    draw.shuffle(steps)
+    return steps, sided
+
+
+class Raised(unittest.TestCase):
+    def test_by_hand(self):
+        # AIM is x less 2 times y, x at most 5 and y from 0 on.
+        steps = [(None, [1, 0, -1, 2, 0]), (4, [0, -5, 1, 0, 1])]
+        told, place = raised(steps, [False, False, True, True, True])
+        self.assertIsNone(place)
+        self.assertEqual(answer_from(told, SHARE, 5), [5, 1, 5, 0, 0])
+        # Where AIM is y less x nothing keeps it.
+        steps = [(None, [1, 0, 1, -1, 0]), (4, [0, -5, 1, 0, 1])]
+        told, place = raised(steps, [False, False, True, True, True])
+        self.assertEqual(answer_from(told, place, 5), [1, 0, 0, 1, 0])
+        # Where AIM is in no step it rises by itself.
+        told, place = raised([(None, [0, 0, 1])], [False, False, True])
+        self.assertEqual(place, AIM)
+
+    def test_turned(self):
+        steps = [(None, [0, 2, 4]), (2, [1, -3, 5])]
+        before = [(lead, list(row)) for lead, row in steps]
+        self.assertEqual(turned(steps, 1, 1), [(None, [1, 0, 11]), (1, [-1, 3, -5])])
+        self.assertEqual(turned(steps, 0, 1), [(1, [0, 2, 4]), (2, [1, 0, 11])])
+        self.assertEqual(steps, before)
+
+    def test_settled(self):
+        draw = random.Random(53)
+        for _ in range(200):
+            steps, sided = drawn_unknowns(draw)
+            told = settled(steps, sided)
+            rows = [row for _, row in steps]
+            self.assertEqual(len(told), rank_of(rows))
+            self.assertEqual(rank_of(rows + [row for _, row in told]), rank_of(rows))
+            for at, (lead, row) in enumerate(told):
+                self.assertGreater(row[lead], 0)
+                self.assertEqual([other[lead] for _, other in told[:at] + told[at + 1:]], [0] * (len(told) - 1))
+
+    def test_what_is_raised_keeps_all_steps_and_sides(self):
+        draw = random.Random(54)
+        counts = [0, 0]
+        for _ in range(500):
+            steps, sided = drawn_unknowns(draw)
+            width = len(sided)
+            told, place = raised(steps, sided)
+            row = answer_from(told, SHARE if place is None else place, width)
+            counts[place is None] += 1
+            self.assertEqual([product(step, row) for _, step in steps], [0] * len(steps))
+            self.assertTrue(all([number >= 0 for side, number in zip(sided, row) if side]))
+            if place is None:
+                self.assertGreater(row[SHARE], 0)
+                # By one step, put together from those handed in, AIM is no more in any other way.
+                top = [line for lead, line in told if lead == AIM][0]
+                self.assertGreater(top[AIM], 0)
+                self.assertTrue(all([number >= 0 if side else number == 0 for side, number in
+                                     zip(sided[2:], top[2:width])]))
+                self.assertEqual(-top[SHARE] * row[SHARE], top[AIM] * row[AIM])
+            else:
+                self.assertEqual(row[SHARE], 0)
+                self.assertGreater(row[AIM], 0)
+        self.assertGreater(min(counts), 100)
 
 
 if __name__ == "__main__":
