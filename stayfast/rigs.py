@@ -17,13 +17,15 @@ def are_kinds(frame, thing):
     return all([kind in KINDS for kind in thing])
 
 
+def is_way(thing):
+    """Tell of anything whether it is the way (a, b) of a hold or a wall."""
+    # Of two numbers that are not both 0, the greater one, its sign left out, is from 1 on.
+    return are_wholes(thing, 2) and 1 <= max([abs(number) for number in thing]) <= STEEPEST
+
+
 def is_stay(frame, thing):
     """Tell of anything whether it can be a hold or a wall of the frame."""
-    if not are_wholes(thing, 3):
-        return False
-    joint, a, b = thing
-    # Of two numbers that are not both 0, the greater one, its sign left out, is from 1 on.
-    return 0 <= joint < frame[0] and 1 <= max(abs(a), abs(b)) <= STEEPEST
+    return are_wholes(thing, 3) and 0 <= thing[0] < frame[0] and is_way(thing[1:])
 
 
 def are_stays(frame, thing):
@@ -58,16 +60,20 @@ def along(motion, stay):
     return product(motion[joint], (a, b))
 
 
-def goes(rig, spots, thing):
-    """Tell of anything whether it is a motion that goes in the rig."""
+def goes_by_stays(rig, thing):
+    """Tell of anything whether it is a motion that holds and walls let go, whatever it does to bars."""
     frame, kinds, holds, walls = rig
-    if not is_motion(frame, thing):
-        return False
-    if not all([lets(kind, grows(spots, thing, one, other)) for kind, (one, other) in zip(kinds, frame[1])]):
-        return False
-    if not all([along(thing, hold) == 0 for hold in holds]):
+    if not is_motion(frame, thing) or not all([along(thing, hold) == 0 for hold in holds]):
         return False
     return all([along(thing, wall) <= 0 for wall in walls])
+
+
+def goes(rig, spots, thing):
+    """Tell of anything whether it is a motion that goes in the rig."""
+    if not goes_by_stays(rig, thing):
+        return False
+    bars = rig[0][1]
+    return all([lets(kind, grows(spots, thing, one, other)) for kind, (one, other) in zip(rig[1], bars)])
 
 
 def can_bear(kind, weight):

@@ -180,3 +180,37 @@ def spoilt(thing):
     for at, part in enumerate(thing):
         for other in spoilt(part):
             yield thing[:at] + (other,) + thing[at + 1:]
+
+
+def given_way(rig, spots, limits, motion):
+    """What all bars give by the motion, each times its limit."""
+    total = 0
+    for bar, kind, limit in zip(rig[0][1], rig[1], limits):
+        grown = growth(spots, motion, *bar)
+        # A member gives what it would bear against: on the sides that its weight can have.
+        total += limit * max([way * grown for way in SIGNS[kind]] + [0])
+    return total
+
+
+def drawn_limits(draw, rig):
+    """Limits of the rig: any, small, all 0, all 999."""
+    low, high = draw.choice(((0, 999), (0, 9), (0, 0), (999, 999), (1, 999)))
+    return tuple([draw.randint(low, high) for _ in rig[1]])
+
+
+def beside(rig, other):
+    """Two rigs as one, the other one's joints numbered behind."""
+    (many, bars), kinds, holds, walls = rig
+    (more, more_bars), more_kinds, more_holds, more_walls = other
+    frame = (many + more, bars + tuple([(many + one, many + end) for one, end in more_bars]))
+    stays = [these + tuple([(many + joint, a, b) for joint, a, b in those])
+             for these, those in ((holds, more_holds), (walls, more_walls))]
+    return (frame, kinds + more_kinds, *stays)
+
+
+def turned_about(rig):
+    """The rig with ropes for props, props for ropes, and walls turned round."""
+    frame, kinds, holds, walls = rig
+    swapped = {"bar": "bar", "rope": "prop", "prop": "rope"}
+    return (frame, tuple([swapped[kind] for kind in kinds]), holds,
+            tuple(sorted([(joint, -a, -b) for joint, a, b in walls])))
