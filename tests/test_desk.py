@@ -138,6 +138,12 @@ class NoLines(unittest.TestCase):
                 if line[at] == " ":
                     self.no(line[:at] + " " + line[at:])
 
+    def test_empty_words(self):
+        for line in (*DEEDS, *QUESTIONS, "back", "again"):
+            words = line.split(" ")
+            for at in range(len(words)):
+                self.no(" ".join(words[:at] + [""] + words[at + 1:]))
+
     def test_line_ends(self):
         for line in (*DEEDS, *QUESTIONS, "back", "again"):
             self.no(line + "\n")

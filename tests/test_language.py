@@ -198,6 +198,41 @@ class Code(unittest.TestCase):
             read = {node.id for node in ast.walk(tree) if isinstance(node, ast.Name)}
             self.assertEqual(read & barred, set(), path.name)
 
+    def test_no_name_is_a_method_and_an_attribute(self):
+        methods, attributes = set(), set()
+        for _, tree in trees():
+            for node in ast.walk(tree):
+                if isinstance(node, ast.ClassDef):
+                    methods |= {part.name for part in node.body if isinstance(part, ast.FunctionDef)}
+                elif isinstance(node, ast.Attribute) and isinstance(node.ctx, ast.Store):
+                    attributes.add(node.attr)
+        self.assertEqual(methods & attributes, set())
+        builtin = {name for kind in (str, int, list, dict, set, bytes, tuple) for name in dir(kind)}
+        self.assertEqual({name for name in methods | attributes if not name.startswith("__")} & builtin, set())
+
+    def test_double_underscore_methods(self):
+        allowed = {"__init__", "__eq__", "__repr__", "__str__", "__len__"}
+        for path, tree in trees():
+            for node in ast.walk(tree):
+                if isinstance(node, ast.FunctionDef) and node.name.startswith("__"):
+                    self.assertIn(node.name, allowed, path.name)
+
+    def test_errors_are_raised_where_they_are_made(self):
+        for path, tree in trees():
+            for node in ast.walk(tree):
+                if isinstance(node, ast.Raise):
+                    self.assertIsInstance(node.exc, ast.Call, path.name)
+                    self.assertIsInstance(node.exc.func, ast.Name, path.name)
+
+    def test_a_finally_only_appends(self):
+        for path, tree in trees():
+            for node in ast.walk(tree):
+                if isinstance(node, ast.Try):
+                    self.assertEqual(node.handlers, [], path.name)
+                    for part in node.finalbody:
+                        self.assertIsInstance(part, ast.Expr, path.name)
+                        self.assertEqual(part.value.func.attr, "append", path.name)
+
     def test_what_is_iterated_at_once_is_not_stored(self):
         at_once = {"range", "zip", "enumerate", "reversed", "items", "keys", "values"}
         for path, tree in trees():
