@@ -75,9 +75,9 @@ def thing_by(sign, word):
 
 def read_line(line):
     """Tell the first word of the line, and a list of what stands behind it."""
-    # What isn't all of its own one line has a line end in it, or is empty.
-    if not isinstance(line, str) or line.splitlines() != [line]:
-        raise NoLine("this is no line")
+    if not isinstance(line, str):
+        raise NoLine("this is no text")
+    # Blanks alone stand between words: any other sign, a line end too, is part of a word.
     word, *others = line.split(" ")
     for way in LINES.get(word, ()):
         things = [thing_by(sign, other) for sign, other in zip(way, others)]

@@ -257,10 +257,8 @@ def motion_of(plan):
 
 def moved_of(plan):
     """Tell the names of the joints that such a motion moves, rising."""
-    names = names_of(plan)
-    # Without joints there is nothing to fall or to loosen.
-    motion = motion_of(plan) if len(names) > 0 else None
-    return [] if motion is None else [name for name, pair in zip(names, motion) if pair != (0, 0)]
+    motion = motion_of(plan)
+    return [] if motion is None else [name for name, pair in zip(names_of(plan), motion) if pair != (0, 0)]
 
 
 def words_of(plan):

@@ -16,6 +16,13 @@ DEEDS = (
     "weigh b 10 0", "shift c 7 -999", "untie c b", "free c", "take c",
 )
 QUESTIONS = ("locked", "stands", "often", "moved", "yard")
+# At which places of a line any word may stand.
+ANY_WORDS = {
+    "put": (1,), "shift": (1,), "take": (1,), "weigh": (1,), "tie": (1, 2, 3), "untie": (1, 2), "hold": (1,),
+    "wall": (1,), "free": (1,),
+}
+# Signs that Python itself parts words or lines at, and others that are in no name.
+SIGNS = ("\n", "\r", "\t", "\v", "\f", "\x1c", "\x1d", "\x1e", "\x1f", "\x85", "\xa0", "\u2028", "\u3000", "\0", "%", "~")
 
 
 def desk_of(lines):
@@ -34,7 +41,6 @@ class Lines(unittest.TestCase):
 
     def test_a_new_desk(self):
         self.say(Desk(), "yard", "none")
-        self.say(Desk(), "moved", "none")
 
     def test_each_line_with_its_answer(self):
         desk = Desk()
@@ -144,16 +150,25 @@ class NoLines(unittest.TestCase):
             for at in range(len(words)):
                 self.no(" ".join(words[:at] + [""] + words[at + 1:]))
 
-    def test_line_ends(self):
+    def test_other_signs_in_first_words_and_numbers(self):
         for line in (*DEEDS, *QUESTIONS, "back", "again"):
-            self.no(line + "\n")
-            self.no("\n" + line)
-            self.no(line + "\nyard")
-            self.no(line.replace(" ", "\n") + "\n")
-            for at in range(len(line)):
-                self.no(line[:at] + "\n" + line[at:])
+            words = line.split(" ")
+            for at, sign in itertools.product(range(len(words)), SIGNS):
+                if at not in ANY_WORDS.get(words[0], ()):
+                    for word in (sign, words[at] + sign, sign + words[at], words[at] + sign + words[at]):
+                        self.no(" ".join([*words[:at], word, *words[at + 1:]]))
+
+    def test_other_signs_instead_of_a_blank(self):
+        for line in (*DEEDS, *QUESTIONS, "back", "again"):
+            for at, sign in itertools.product(range(len(line)), SIGNS):
                 if line[at] == " ":
-                    self.no(line[:at] + "\n" + line[at + 1:])
+                    self.no(line[:at] + sign + line[at + 1:])
+            for sign in SIGNS:
+                self.no(line.replace(" ", sign) + sign)
+
+    def test_two_lines_are_none(self):
+        for one, other in itertools.product((*DEEDS, *QUESTIONS, "back", "again"), ("put a 0 0", "free a", "take b")):
+            self.no(one + "\n" + other)
 
     def test_words(self):
         for line in ("", " ", "  ", "\n", "Yard", "yards", "yar", "YARD", "fly", "together", "log", "names", "rig",
@@ -197,6 +212,16 @@ class Refused(unittest.TestCase):
         six = [f"put {name} 0 0" for name in "abcdef"]
         self.refused(six, "put g 1 1", Full, many=6)
 
+    def test_other_signs_in_names_and_kinds(self):
+        for sign in SIGNS:
+            for name in (sign, "a" + sign, sign + "a", "a" + sign + "b"):
+                self.refused(DEEDS[:4], f"put {name} 1 2", NoName)
+                for line in ("shift {} 0 0", "take {}", "weigh {} 0 0", "hold {} 1 0", "wall {} 1 0", "free {}",
+                             "tie {} a", "tie a {}", "tie {} b rope 3", "tie a {} iron 3", "untie {} a", "untie b {}"):
+                    self.refused(DEEDS[:4], line.format(name), NoJoint, name=name)
+            for kind in (sign, "bar" + sign, sign + "rope"):
+                self.refused(DEEDS[:3], f"tie a b {kind} 3", NoKind)
+
     def test_shift_take_weigh(self):
         for line in ("shift x 0 0", "take x", "weigh x 0 0", "free x", "hold x 0 0", "wall x 0 0"):
             self.refused(DEEDS[:3], line, NoJoint, name="x")
@@ -236,7 +261,7 @@ class Refused(unittest.TestCase):
         self.refused(["put a 0 0", "back", "put b 0 0"], "again", NothingLeft)
 
     def test_questions_of_a_yard_without_joints(self):
-        for word in ("locked", "stands", "often"):
+        for word in ("locked", "stands", "often", "moved"):
             self.refused([], word, NoJoint, name="")
             self.refused(["put a 0 0", "take a"], word, NoJoint, name="")
 

@@ -45,9 +45,10 @@ def yard_of(deeds):
 
 def all_told(yard):
     """All that is told of a yard but its log."""
-    told = [yard.names(), len(yard), str(yard), yard.moved()]
+    told = [yard.names(), len(yard), str(yard)]
     if len(yard) > 0:
-        told += [yard.rig(), yard.spots(), yard.load(), yard.limits(), yard.is_locked(), yard.stands(), yard.often()]
+        told += [yard.rig(), yard.spots(), yard.load(), yard.limits()]
+        told += [yard.is_locked(), yard.stands(), yard.often(), yard.moved()]
     return told
 
 
@@ -665,13 +666,19 @@ class Told(Case):
 
     def test_a_yard_without_joints(self):
         yard = Yard()
-        self.assertEqual((yard.names(), yard.log(), yard.moved(), len(yard), str(yard)), ([], [], [], 0, ""))
+        self.assertEqual((yard.names(), yard.log(), len(yard), str(yard)), ([], [], 0, ""))
         emptied = yard_of([*DEEDS, ("take", "a"), ("take", "b"), ("take", "c")])
-        for empty in (yard, emptied):
-            for word in ("rig", "spots", "load", "limits", "is_locked", "stands", "often"):
+        undone = yard_of(DEEDS[:1])
+        undone.back()
+        for empty in (yard, emptied, undone):
+            log = empty.log()
+            for word in ("rig", "spots", "load", "limits", "is_locked", "stands", "often", "moved"):
                 with self.assertRaises(NoJoint) as caught:
                     getattr(empty, word)()
+                self.assertIs(type(caught.exception), NoJoint)
                 self.assertEqual(caught.exception.name, "")
+            self.assertTrue(empty == Yard())
+            self.assertEqual(empty.log(), log)
 
     def test_locked_stands_often_and_moved(self):
         yard = yard_of([("put", "a", 0, 0), ("put", "b", 5, 0), ("tie", "a", "b", "rope", 3), ("hold", "a", 1, 0),
@@ -709,9 +716,11 @@ class Told(Case):
         self.assertTrue(yard == yard_of(DEEDS))
         empty = Yard()
         empty.names().append("x")
-        empty.moved().append("x")
         empty.log().append(("in", "x"))
-        self.assertEqual((empty.names(), empty.moved(), empty.log()), ([], [], []))
+        self.assertEqual((empty.names(), empty.log()), ([], []))
+        still = yard_of([("put", "a", 0, 0), ("hold", "a", 1, 0), ("hold", "a", 0, 1)])
+        still.moved().append("x")
+        self.assertEqual(still.moved(), [])
 
     def test_what_was_told_stays(self):
         yard = yard_of(DEEDS)
